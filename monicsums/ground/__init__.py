@@ -1,0 +1,1 @@
+"""Fields, polynomials over them, and quotients of polynomials."""
