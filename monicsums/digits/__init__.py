@@ -1,0 +1,1 @@
+"""Digits of integers, and carries."""

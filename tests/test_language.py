@@ -1,0 +1,46 @@
+"""The package keeps to the rules of its language, as far as tests/language.py sees them."""
+
+import ast
+import os
+import unittest
+
+from tests import language
+
+# The interface that has landed: for each file its functions and classes.
+INTERFACE = {
+    "errors": "MonicError InvalidField InvalidPolynomial InvalidQuotient InvalidParting InvalidRow InvalidName"
+    " InvalidOperation ParseError InvalidNumber UnknownName NothingToUndo TooMany Refused",
+    "ground/fields": "is_field prime_of power_of is_element element_sum element_less element_product"
+    " element_inverse element_power element_order element_maker element_root",
+    "ground/polys": "is_polynomial is_monic is_prime added less times divided power power_rest common monics"
+    " primes_of prime_count factors units_count Poly",
+    "ground/quotients": "is_quotient quotient_of is_whole_quotient quotient_sum quotient_less quotient_product"
+    " quotient_inverse size_of",
+    "digits/digits": "digits of_digits digit_sum carries has_no_carries is_digitwise digitwise choose_rest"
+    " multinomial_rest shift_sums most_parts",
+    "sums/plain": "power_sum all_product least_multiple low_coefficients low_value sum_by_series sums_below",
+    "sums/partings": "parting is_parting digit_bar is_digit_bar is_zero_sum greatest_parting all_partings"
+    " sum_by_partings parting_exponent parting_number",
+    "sums/degrees": "sum_degree leading degree_row leading_row step_row zero_leads is_degree",
+}
+
+
+class Language(unittest.TestCase):
+    def test_no_fault_is_seen(self):
+        self.assertEqual(language.faults(), [])
+
+    def test_the_interface_is_defined_in_its_files(self):
+        for name, words in INTERFACE.items():
+            tree = ast.parse(language.text_of(os.path.join("monicsums", name + ".py")))
+            own = [node.name for node in tree.body if isinstance(node, (ast.FunctionDef, ast.ClassDef))]
+            for word in words.split():
+                self.assertIn(word, own, name)
+
+    def test_each_folder_is_a_package(self):
+        paths = language.files()
+        for path in paths:
+            self.assertIn(os.path.join(os.path.dirname(path), "__init__.py"), paths)
+
+
+if __name__ == "__main__":
+    unittest.main()
