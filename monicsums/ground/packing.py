@@ -17,7 +17,8 @@ def slot_text(q, element):
     text = ""
     left = element
     for _ in range(2 * POWERS[q] - 1):
-        text = f"{left % p:05x}" + text
+        digit = left % p
+        text = f"{digit:05x}" + text
         left = left // p
     return text
 

@@ -170,7 +170,6 @@ def factors(q, a):
 
 def units_count(q, m):
     """How many rests modulo m have no common divisor with m of degree at least 1."""
-    check_field(q)
     check_modulus(q, m)
     check_factored(m)
     found = prime_times(q, row_monic(q, m))
@@ -207,7 +206,6 @@ class Poly:
     """A polynomial with operators."""
 
     def __init__(self, q, coefficients):
-        check_field(q)
         check_polynomial(q, coefficients)
         self._field = q
         self._coefficients = coefficients

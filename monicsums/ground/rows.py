@@ -78,7 +78,8 @@ def product_by_terms(q, a, b):
     for at, element in enumerate(a):
         if element != 0:
             products = PRODUCTS[q][element]
-            made[at:at + len(b)] = [sums[x][products[y]] for x, y in zip(made[at:at + len(b)], b)]
+            end = at + len(b)
+            made = made[:at] + [sums[x][products[y]] for x, y in zip(made[at:end], b)] + made[end:]
     return tuple(made)
 
 
@@ -89,12 +90,12 @@ def row_divided(q, a, b):
     rest = list(a)
     quotient = [0] * max(len(a) - len(b) + 1, 0)
     for at in range(len(a) - len(b), -1, -1):
-        element = PRODUCTS[q][rest[at + len(b) - 1]][inverse]
-        if element != 0:
-            quotient[at] = element
-            products = PRODUCTS[q][OPPOSITES[q][element]]
-            rest[at:at + len(b)] = [sums[x][products[y]] for x, y in zip(rest[at:at + len(b)], b)]
-    return trimmed(quotient), trimmed(rest[:len(b) - 1])
+        element = PRODUCTS[q][rest[-1]][inverse]
+        quotient[at] = element
+        products = PRODUCTS[q][OPPOSITES[q][element]]
+        # The highest coefficient goes, and the next ones lose the element times those of b.
+        rest = rest[:at] + [sums[x][products[y]] for x, y in zip(rest[at:-1], b)]
+    return trimmed(quotient), trimmed(rest)
 
 
 def row_prime_power(q, a):
