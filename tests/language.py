@@ -20,8 +20,10 @@ METHODS = set(
 )
 DUNDERS = set(
     "__init__ __eq__ __str__ __len__ __call__ __iter__ __add__ __sub__ __mul__ __floordiv__ __mod__ __pow__"
-    " __bool__".split()
+    " __bool__ __neg__".split()
 )
+# Methods of builtin values that modify.
+CHANGES = set("append clear extend insert pop remove reverse setdefault sort update".split())
 BANNED_NODES = (
     ast.AsyncFunctionDef, ast.Await, ast.AsyncFor, ast.AsyncWith, ast.Global, ast.Nonlocal, ast.GeneratorExp,
     ast.Yield, ast.YieldFrom, ast.Set, ast.SetComp, ast.Div, ast.MatMult, ast.AnnAssign, ast.Import, ast.Try,
@@ -243,6 +245,101 @@ def unused_faults(path, tree):
                     yield path, node.lineno, f"{one.name} is imported, but not used"
 
 
+def trees():
+    """The dict from the modules to their trees."""
+    return {module_of(path): ast.parse(text_of(path)) for path in files()}
+
+
+def functions_of(known):
+    """The dict from (module, name) to the function that is called by this name there, imported ones included."""
+    own, found = {}, {}
+    for module, tree in known.items():
+        for node in tree.body:
+            if isinstance(node, ast.FunctionDef):
+                own[module, node.name] = found[module, node.name] = (module, node)
+    for module, tree in known.items():
+        for node in tree.body:
+            if isinstance(node, ast.ImportFrom):
+                for one in node.names:
+                    if (node.module, one.name) in own:
+                        found[module, one.name] = own[node.module, one.name]
+    return found
+
+
+def still_methods(known):
+    """The operators, properties and other double-underscore methods that change nothing."""
+    for module, tree in known.items():
+        for box in tree.body:
+            for node in box.body if isinstance(box, ast.ClassDef) else []:
+                if isinstance(node, ast.FunctionDef):
+                    dunder = node.name.startswith("__") and node.name not in ("__init__", "__call__")
+                    if dunder or node.decorator_list:
+                        yield module, node
+
+
+def still_functions(known):
+    """Those methods, and all functions that they call, through what these call, too."""
+    called = functions_of(known)
+    waiting = list(still_methods(known))
+    seen = []
+    while waiting:
+        module, function = waiting.pop()
+        if function in seen:
+            continue
+        seen.append(function)
+        yield module, function
+        for node in ast.walk(function):
+            if isinstance(node, ast.Call) and isinstance(node.func, ast.Name):
+                if (module, node.func.id) in called:
+                    waiting.append(called[module, node.func.id])
+
+
+def is_new_value(node):
+    """Whether an expression surely is a new list or dict: a literal, a comprehension, or a copy."""
+    if isinstance(node, ast.Call):
+        return isinstance(node.func, ast.Name) and node.func.id in ("list", "dict", "sorted")
+    return isinstance(node, (ast.List, ast.ListComp, ast.Dict, ast.DictComp))
+
+
+def own_values(function):
+    """The local variables that are assigned new lists and dicts alone, and those that are assigned calls alone."""
+    values = {one.arg: [None] for one in function.args.args}
+    for node in ast.walk(function):
+        if isinstance(node, ast.Assign) and len(node.targets) == 1 and isinstance(node.targets[0], ast.Name):
+            values.setdefault(node.targets[0].id, []).append(node.value)
+        elif isinstance(node, (ast.Assign, ast.For, ast.AugAssign)):
+            targets = node.targets if isinstance(node, ast.Assign) else [node.target]
+            for one in [one for target in targets for one in ast.walk(target) if isinstance(one, ast.Name)]:
+                if not isinstance(node, ast.Assign) or isinstance(one.ctx, ast.Store):
+                    values.setdefault(one.id, []).append(None)
+    new = [name for name in values if all(is_new_value(one) for one in values[name])]
+    made = [name for name in values if all(isinstance(one, ast.Call) for one in values[name])]
+    return new, made
+
+
+def still_faults():
+    """What an operator, a property or the like changes or calls, through what it calls, that it did not create."""
+    for module, function in still_functions(trees()):
+        new, made = own_values(function)
+        names = names_bound_in(function)
+        for node in ast.walk(function):
+            wrong = False
+            if isinstance(node, ast.Subscript) and not isinstance(node.ctx, ast.Load):
+                wrong = isinstance(node.slice, ast.Slice) or not is_name(node.value, new)
+            elif isinstance(node, ast.Attribute) and not isinstance(node.ctx, ast.Load):
+                wrong = not is_name(node.value, made)
+            elif isinstance(node, ast.Call) and isinstance(node.func, ast.Attribute):
+                wrong = node.func.attr in CHANGES and not is_name(node.func.value, new)
+            elif isinstance(node, ast.Call) and isinstance(node.func, ast.Name):
+                wrong = node.func.id in names
+            if wrong:
+                yield module, node.lineno, f"L5 or L28 {function.name} changes or calls what it did not create"
+
+
+def is_name(node, names):
+    return isinstance(node, ast.Name) and node.id in names
+
+
 def faults():
     """All that is seen to break a rule."""
     found = []
@@ -265,4 +362,5 @@ def faults():
             if fault is not None:
                 found.append((path, getattr(node, "lineno", 0), fault))
     found.extend(circle_faults())
+    found.extend(still_faults())
     return found

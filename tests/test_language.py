@@ -29,6 +29,16 @@ class Language(unittest.TestCase):
     def test_no_fault_is_seen(self):
         self.assertEqual(language.faults(), [])
 
+    def test_what_operators_run(self):
+        run = [function.name for _, function in language.still_functions(language.trees())]
+        for name in ("row_divided", "divided_by_terms", "row_stretched", "product_by_terms", "trimmed"):
+            self.assertIn(name, run)
+        wrong = "def f(n, xs):\n    made = [0] * n\n    made[0] = 1\n    return made\n"
+        function = ast.parse(wrong).body[0]
+        self.assertEqual(language.own_values(function), ([], []))
+        right = ast.parse(wrong.replace("[0] * n", "[0 for _ in range(n)]")).body[0]
+        self.assertEqual(language.own_values(right), (["made"], []))
+
     def test_the_interface_is_defined_in_its_files(self):
         for name, words in INTERFACE.items():
             tree = ast.parse(language.text_of(os.path.join("monicsums", name + ".py")))

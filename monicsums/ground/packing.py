@@ -1,56 +1,185 @@
-"""Products of long polynomials by one product of integers.
+"""Long polynomials as integers: products, quotients and common divisors by few operations of integers.
 
-Each coefficient is put into slots of its own of a long integer, one slot for each power of u that
-occurs in a product of two elements. The slots are so wide that no sum of products runs over: such a
-sum is at most 36 times the number of coefficients, which stays far below 16 ** 5 // 36.
+Each coefficient has slots of its own in a long integer, one slot for each power of u that occurs in a product of
+two elements. The slots are so wide that no sum of products runs over: such a sum is at most 36 times the number of
+coefficients, which stays far below 2 ** 20 // 36. An integer is packed if its slots hold elements: digits in base p,
+and 0 for the powers of u from f on. What sums and products leave in the slots is brought back to that by `reduced`.
 """
 
-from monicsums.ground.tables import POWERS, PRIMES, PRODUCTS, SUMS
+from monicsums.ground.tables import INVERSES, OPPOSITES, POWERS, PRIMES, PRODUCTS, SUMS
 
-# How many hexadecimal digits a slot has.
+# How many bits and how many hexadecimal digits a slot has.
+BITS = 20
 WIDTH = 5
+# Below this bound the rest modulo p is told by one product with a number that is nearly 2 ** 12 / p.
+SMALL = 384
+# How many bits of a greater slot are folded, one fold after the other.
+FOLDS = (10, 6)
+
+# SLOTS[q][x] has the slots of the element x as hexadecimal digits, that of the highest power of u first.
+SLOTS = {
+    2: ("00000", "00001"),
+    3: ("00000", "00001", "00002"),
+    4: ("000000000000000", "000000000000001", "000000000100000", "000000000100001"),
+    5: ("00000", "00001", "00002", "00003", "00004"),
+    7: ("00000", "00001", "00002", "00003", "00004", "00005", "00006"),
+    8: (
+        "0000000000000000000000000", "0000000000000000000000001", "0000000000000000000100000",
+        "0000000000000000000100001", "0000000000000010000000000", "0000000000000010000000001",
+        "0000000000000010000100000", "0000000000000010000100001",
+    ),
+    9: (
+        "000000000000000", "000000000000001", "000000000000002", "000000000100000", "000000000100001",
+        "000000000100002", "000000000200000", "000000000200001", "000000000200002",
+    ),
+}
+# NUMBERS[q][x] is the integer with these digits.
+NUMBERS = {
+    2: (0, 1),
+    3: (0, 1, 2),
+    4: (0, 1, 1048576, 1048577),
+    5: (0, 1, 2, 3, 4),
+    7: (0, 1, 2, 3, 4, 5, 6),
+    8: (0, 1, 1048576, 1048577, 1099511627776, 1099511627777, 1099512676352, 1099512676353),
+    9: (0, 1, 2, 1048576, 1048577, 1048578, 2097152, 2097153, 2097154),
+}
+DIGITS = {"0": 0, "1": 1, "2": 2, "3": 3, "4": 4, "5": 5, "6": 6, "7": 7, "8": 8}
 
 
-def slot_text(q, element):
-    """The slots of an element as hexadecimal digits, that of the highest power of u first."""
-    p = PRIMES[q]
-    text = ""
-    left = element
-    for _ in range(2 * POWERS[q] - 1):
-        digit = left % p
-        text = f"{digit:05x}" + text
-        left = left // p
-    return text
+def slots_of(q):
+    """How many slots a coefficient has."""
+    return 2 * POWERS[q] - 1
+
+
+def size_of_slots(q):
+    """How many bits a coefficient has."""
+    return BITS * slots_of(q)
 
 
 def packed(q, a):
-    """The integer whose slots hold the coefficients of a polynomial other than 0."""
-    texts = [slot_text(q, element) for element in range(q)]
-    return int("".join([texts[element] for element in a[::-1]]), 16)
+    """The integer whose slots hold the coefficients of a polynomial."""
+    texts = SLOTS[q]
+    return int("0" + "".join([texts[x] for x in a[::-1]]), 16)
 
 
-def slot_element(q, text):
-    """The element that the slots of one coefficient tell."""
+def repeated(text, many):
+    """The integer with the hexadecimal digits `text`, told many times."""
+    return int("0" + text * many, 16)
+
+
+def folded_powers(q, number, many):
+    """The same coefficients without powers of u from f on: the f-th power of u is u + 1."""
+    f = POWERS[q]
+    if f == 1:
+        return number
+    high = number & repeated("fffff" * (f - 1) + "00000" * f, many)
+    return number - high + (high >> BITS * f) + (high >> BITS * (f - 1))
+
+
+def folded_slots(p, number, ones, bits):
+    """The same slots modulo p, the upper part of each one times 2 ** bits modulo p added to its lower part."""
+    lower = number & ones * ((1 << bits) - 1)
+    return lower + (number - lower >> bits) * ((1 << bits) % p)
+
+
+def reduced(q, number, many, most):
+    """The packed integer with the same `many` coefficients; no slot holds more than `most`."""
     p = PRIMES[q]
-    # The element u is p; for a prime q there is one slot, and nothing is multiplied.
-    u = p % q
-    made = 0
-    for at in range(0, len(text), WIDTH):
-        digit = int(text[at:at + WIDTH], 16) % p
-        made = SUMS[q][PRODUCTS[q][made][u]][digit]
-    return made
+    number = folded_powers(q, number, many)
+    ones = repeated("00001", many * slots_of(q))
+    if p == 2:
+        return number & ones
+    if most >= SMALL:
+        for bits in FOLDS:
+            number = folded_slots(p, number, ones, bits)
+    # A slot below 384 times this number is below 2 ** 20, and its bits from the twelfth one on are the quotient by p.
+    quotients = number * (4096 // p + 1) >> 12 & ones * 255
+    return number - quotients * p
 
 
 def unpacked(q, number, many):
-    """The list of the first `many` coefficients that the slots of an integer tell."""
-    size = WIDTH * (2 * POWERS[q] - 1)
-    text = f"{number:x}".zfill(many * size)
-    lots = [text[at:at + size] for at in range(len(text) - size, -1, -size)]
-    if POWERS[q] == 1:
-        return [int(lot, 16) % q for lot in lots]
-    return [slot_element(q, lot) for lot in lots]
+    """The list of the `many` coefficients that a packed integer holds."""
+    p = PRIMES[q]
+    size = slots_of(q)
+    told = number
+    if size > 1:
+        # The digits of an element are put together in its lowest slot.
+        lowest = repeated("00000" * (size - 1) + "0000f", many)
+        told = (number & lowest) + (number >> BITS & lowest) * p + (number >> 2 * BITS & lowest) * p * p
+    text = f"{told:x}".zfill(many * size * WIDTH)
+    return [DIGITS[digit] for digit in text[::-1][:many * size * WIDTH:size * WIDTH]]
+
+
+def most_in_slots(q, many):
+    """A bound of a slot to which `many` products of two elements are added."""
+    # A slot of the product of two elements is at most 8 for q = 9, and 36 for q = 7.
+    return 36 * many + 12
 
 
 def packed_product(q, a, b):
     """The list of the coefficients of the product of two polynomials other than 0."""
-    return unpacked(q, packed(q, a) * packed(q, b), len(a) + len(b) - 1)
+    many = len(a) + len(b) - 1
+    most = most_in_slots(q, min(len(a), len(b)))
+    return unpacked(q, reduced(q, packed(q, a) * packed(q, b), many, most), many)
+
+
+def slots_element(q, number):
+    """The element that the slots of one coefficient tell."""
+    p = PRIMES[q]
+    if POWERS[q] == 1:
+        return number % p
+    made = 0
+    for at in range(slots_of(q) - 1, -1, -1):
+        digit = (number >> BITS * at & 1048575) % p
+        made = SUMS[q][PRODUCTS[q][made][p]][digit]
+    return made
+
+
+def packed_divided(q, a, b):
+    """The lists of the coefficients of the quotient and of the rest of a divided by b, which is not longer."""
+    size = size_of_slots(q)
+    few = len(b) - 1
+    place = size * few
+    inverses = PRODUCTS[q][OPPOSITES[q][INVERSES[q][b[-1]]]]
+    low = packed(q, b[:-1])
+    rest = packed(q, a[len(a) - few:])
+    factors = []
+    for x in a[len(a) - few - 1::-1]:
+        rest = (rest << size) + NUMBERS[q][x]
+        top = rest >> place
+        factor = inverses[slots_element(q, top)]
+        factors.append(factor)
+        rest = rest - (top << place) + NUMBERS[q][factor] * low
+    most = most_in_slots(q, min(few, len(factors)))
+    return [OPPOSITES[q][factor] for factor in factors[::-1]], unpacked(q, reduced(q, rest, few, most), few)
+
+
+def packed_rest(q, one, many, other, few):
+    """The packed rest of a packed polynomial with many coefficients by one with few coefficients, no more."""
+    size = size_of_slots(q)
+    lead = other >> size * (few - 1)
+    low = other - (lead << size * (few - 1))
+    inverses = PRODUCTS[q][OPPOSITES[q][INVERSES[q][slots_element(q, lead)]]]
+    rest = one
+    for at in range(many - few, -1, -1):
+        place = size * (at + few - 1)
+        top = rest >> place
+        if top > 0:
+            rest = rest - (top << place) + (NUMBERS[q][inverses[slots_element(q, top)]] * low << size * at)
+    return reduced(q, rest, few - 1, most_in_slots(q, min(few, many - few + 1)))
+
+
+def packed_common(q, a, b):
+    """The list of the coefficients of a common divisor of the greatest degree; b is not longer than a, and not 0."""
+    size = size_of_slots(q)
+    one = packed(q, a)
+    other = packed(q, b)
+    many = len(a)
+    few = len(b)
+    while few > 0:
+        rest = packed_rest(q, one, many, other, few)
+        one = other
+        many = few
+        other = rest
+        few = (rest.bit_length() + size - 1) // size
+    return unpacked(q, one, many)

@@ -2,11 +2,13 @@
 
 from monicsums.ground.fields import repeated_product, root_of
 from monicsums.ground.integers import is_between
-from monicsums.ground.packing import packed_product
-from monicsums.ground.tables import INVERSES, OPPOSITES, PRIMES, PRODUCTS, SUMS
+from monicsums.ground.packing import packed_common, packed_divided, packed_product
+from monicsums.ground.tables import INVERSES, OPPOSITES, POWERS, PRIMES, PRODUCTS, SUMS
 
 # With more coefficients than this that are not 0 a product is quicker by packing.
-FEW = 24
+FEW = 8
+# With more coefficients than this in the divisor a division is quicker by packing.
+SHORT = 16
 
 
 def is_row_over(q, value, most):
@@ -57,7 +59,7 @@ def row_monic(q, a):
 
 def many_terms(a):
     """How many coefficients of a are not 0."""
-    return len([x for x in a if x != 0])
+    return len(a) - a.count(0)
 
 
 def row_product(q, a, b):
@@ -85,26 +87,44 @@ def product_by_terms(q, a, b):
 
 def row_divided(q, a, b):
     """The quotient and the rest of a divided by b, which is not 0."""
+    if len(a) < len(b):
+        return (), a
+    if len(b) > SHORT:
+        quotient, rest = packed_divided(q, a, b)
+    else:
+        quotient, rest = divided_by_terms(q, a, b)
+    return tuple(quotient), trimmed(rest)
+
+
+def divided_by_terms(q, a, b):
+    """The lists of the coefficients of the quotient and of the rest of a divided by b, which is not longer."""
     sums = SUMS[q]
-    inverse = INVERSES[q][b[-1]]
-    rest = list(a)
-    quotient = [0] * max(len(a) - len(b) + 1, 0)
-    for at in range(len(a) - len(b), -1, -1):
-        element = PRODUCTS[q][rest[-1]][inverse]
-        quotient[at] = element
+    inverses = PRODUCTS[q][INVERSES[q][b[-1]]]
+    low = b[:-1]
+    quotient = []
+    # The rest so far, without the lower coefficients of a, which are taken one by one.
+    rest = list(a[len(a) - len(low):])
+    for x in a[len(a) - len(b)::-1]:
+        window = [x] + rest
+        element = inverses[window[-1]]
+        quotient.append(element)
         products = PRODUCTS[q][OPPOSITES[q][element]]
-        # The highest coefficient goes, and the next ones lose the element times those of b.
-        rest = rest[:at] + [sums[x][products[y]] for x, y in zip(rest[at:-1], b)]
-    return trimmed(quotient), trimmed(rest)
+        rest = [sums[y][products[z]] for y, z in zip(window, low)]
+    return quotient[::-1], rest
+
+
+def row_stretched(a, times):
+    """The polynomial a with T ** times put in for T."""
+    gap = (0,) * (times - 1)
+    return tuple([x for y in a[:-1] for x in (y,) + gap]) + a[-1:]
 
 
 def row_prime_power(q, a):
     """The p-th power of a: the p-th powers of its terms."""
     p = PRIMES[q]
-    made = [0] * (p * len(a))
-    for at, element in enumerate(a):
-        made[p * at] = repeated_product(q, element, p)
-    return trimmed(made)
+    if p == q:
+        return row_stretched(a, p)
+    return row_stretched(tuple([repeated_product(q, x, p) for x in a]), p)
 
 
 def row_prime_root(q, a):
@@ -162,15 +182,26 @@ def rest_by_products(q, a, m, turned):
 
 def row_common_divisor(q, a, b):
     """The monic common divisor of the greatest degree; 0 if both are 0."""
-    one = a
-    other = b
-    while len(other) > 0:
-        rest = row_divided(q, one, other)[1]
-        one = other
-        other = rest
+    if len(a) < len(b):
+        return row_common_divisor(q, b, a)
+    # Packing pays where a coefficient has one slot.
+    if len(b) > SHORT and POWERS[q] == 1:
+        return row_monic(q, tuple(packed_common(q, a, b)))
+    one = common_by_terms(q, a, b)
     if len(one) == 0:
         return ()
     return row_monic(q, one)
+
+
+def common_by_terms(q, a, b):
+    """A common divisor of the greatest degree; b is not longer than a."""
+    one = a
+    other = b
+    while len(other) > 0:
+        rest = divided_by_terms(q, one, other)[1]
+        one = other
+        other = trimmed(rest)
+    return one
 
 
 def row_value(q, a, element):
