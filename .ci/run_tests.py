@@ -4,6 +4,7 @@ import os
 import re
 import subprocess
 import sys
+from concurrent.futures import ThreadPoolExecutor
 
 ROOT = os.path.dirname(os.path.dirname(os.path.abspath(__file__)))
 SHARED = os.path.join(os.path.dirname(ROOT), "shared", "tests")
@@ -18,21 +19,21 @@ def test_files(folder):
     return found
 
 
-def run_file(path, top):
-    """Run one file of tests; the pair of how many tests passed and how many failed."""
-    place, name = os.path.split(path)
-    command = [sys.executable, "-m", "unittest", "discover", "-s", place, "-t", top or place, "-p", name]
+def run_file(place):
+    """Run one file of tests below a folder; the triple of how many tests passed, how many failed, and what to tell."""
+    path, top = place
+    folder, name = os.path.split(path)
+    command = [sys.executable, "-m", "unittest", "discover", "-s", folder, "-t", top or folder, "-p", name]
     done = subprocess.run(command, cwd=ROOT, stdout=subprocess.PIPE, stderr=subprocess.STDOUT, text=True, check=False)
     ran = re.findall(r"^Ran (\d+) tests? in", done.stdout, re.MULTILINE)
     many = int(ran[-1]) if ran else 0
-    print(f"{os.path.relpath(path, ROOT)}: {many} tests, exit {done.returncode}", flush=True)
+    told = f"{os.path.relpath(path, ROOT)}: {many} tests, exit {done.returncode}"
     # A file without a test is no failure; Python 3.12 and later end with 5 there.
     if done.returncode == 0 or (done.returncode == 5 and many == 0):
-        return many, 0
-    print(done.stdout, flush=True)
+        return many, 0, told
     wrong = sum(int(one) for one in re.findall(r"(?:failures|errors|unexpected successes)=(\d+)", done.stdout))
     wrong = max(wrong, 1)
-    return max(many - wrong, 0), wrong
+    return max(many - wrong, 0), wrong, f"{told}\n{done.stdout}"
 
 
 def main():
@@ -41,12 +42,11 @@ def main():
     if not own:
         print("the project has no tests")
         failed += 1
-    for path in own:
-        good, bad = run_file(path, ROOT)
-        passed, failed = passed + good, failed + bad
-    for path in test_files(SHARED):
-        good, bad = run_file(path, None)
-        passed, failed = passed + good, failed + bad
+    places = [(path, ROOT) for path in own] + [(path, None) for path in test_files(SHARED)]
+    with ThreadPoolExecutor(max_workers=max(1, min(8, os.cpu_count() or 1))) as pool:
+        for good, bad, told in pool.map(run_file, places):
+            print(told, flush=True)
+            passed, failed = passed + good, failed + bad
     print(f"{passed} passed, {failed} failed")
     return 1 if failed or not passed else 0
 

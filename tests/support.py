@@ -3,7 +3,8 @@
 import unittest
 
 from monicsums import errors
-from monicsums.ground.polys import Poly
+from monicsums.ground.polys import Poly, is_prime, prime_count
+from monicsums.ground.rows import row_divided
 
 FIELDS = (2, 3, 4, 5, 7, 8, 9)
 PRIMES = {2: 2, 3: 3, 4: 2, 5: 5, 7: 7, 8: 2, 9: 3}
@@ -64,6 +65,20 @@ class Case(unittest.TestCase):
         for q in NO_FIELDS:
             self.refuses(errors.InvalidField, None, call, q, *arguments)
             self.refuses(errors.InvalidField, None, call, q, *[None for _ in arguments])
+
+
+    def refuses_in_order(self, call, good, kinds):
+        """Each wrong argument is refused by its error, whatever follows it; `kinds` has the pairs (error, values)."""
+        for at, (error, values) in enumerate(kinds):
+            for value in values:
+                worth = value if error is errors.InvalidNumber else None
+                arguments = list(good)
+                arguments[at] = value
+                self.refuses(error, worth, call, *arguments)
+                for later in range(at + 1, len(kinds)):
+                    both = list(arguments)
+                    both[later] = kinds[later][1][0]
+                    self.refuses(error, worth, call, *both)
 
 
 class Numbers:
@@ -173,3 +188,36 @@ def slow_monics(q, d):
 def slow_below(q, d):
     """All polynomials of degree below d."""
     return [cut(row[:-1]) for row in slow_monics(q, d)]
+
+
+def rest_of(q, a, m):
+    """The rest of a modulo m; both may be longer than passed ones."""
+    return row_divided(q, a, m)[1]
+
+
+def minus(q, a):
+    return slow_less(q, (), a)
+
+
+def some_primes(q, h, many=3):
+    """Some primes of degree h."""
+    numbers = Numbers(10 * q + h)
+    found = []
+    while len(found) < many:
+        a = numbers.monic(q, h)
+        if is_prime(q, a) and a not in found:
+            found.append(a)
+        elif (q, h) in ((2, 1), (2, 2), (2, 3)) and len(found) == prime_count(q, h):
+            break
+    return found
+
+
+def no_monics(q):
+    """Values that are no monic polynomials that may be passed."""
+    return no_polynomials(q) + [(), (0,) * 401 + (1,)] + [(0, element) for element in range(2, q)]
+
+
+def no_primes(q):
+    """Values that are no primes of degree at most 6."""
+    far = some_primes(q, 7, 1)
+    return no_monics(q) + [(1,), (0, 0, 1), (0, 1, 1), (0, q - 1, 1)] + far

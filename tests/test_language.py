@@ -22,6 +22,18 @@ INTERFACE = {
     "sums/partings": "parting is_parting digit_bar is_digit_bar is_zero_sum greatest_parting all_partings"
     " sum_by_partings parting_exponent parting_number",
     "sums/degrees": "sum_degree leading degree_row leading_row step_row zero_leads is_degree",
+    "sums/zeta": "zeta_row zeta_value does_vanish period period_bar is_period_bar zeta_rests power_sum_rest",
+    "tables/additive": "Additive moore dependence is_dependence span_additive is_spanned",
+    "ring/carlitz": "carlitz carlitz_coefficient carlitz_value carlitz_rest",
+    "ring/rounds": "module_order is_maker maker orders_count makers_count killed_by module_log not_made",
+}
+
+# The classes that have landed: what stands in the body of each one.
+METHODS = {
+    "ground/polys": "field coefficients degree __add__ __sub__ __mul__ __floordiv__ __mod__ __pow__ __call__ __bool__"
+    " __len__ __iter__ __eq__ __str__",
+    "tables/additive": "over parts __add__ __sub__ __neg__ __mul__ __call__ __eq__ __len__ __bool__ __str__"
+    " right_divided",
 }
 
 
@@ -43,6 +55,14 @@ class Language(unittest.TestCase):
         for name, words in INTERFACE.items():
             tree = ast.parse(language.text_of(os.path.join("monicsums", name + ".py")))
             own = [node.name for node in tree.body if isinstance(node, (ast.FunctionDef, ast.ClassDef))]
+            for word in words.split():
+                self.assertIn(word, own, name)
+
+    def test_methods_stand_in_their_classes(self):
+        for name, words in METHODS.items():
+            tree = ast.parse(language.text_of(os.path.join("monicsums", name + ".py")))
+            boxes = [node for node in tree.body if isinstance(node, ast.ClassDef)]
+            own = [node.name for box in boxes for node in box.body if isinstance(node, ast.FunctionDef)]
             for word in words.split():
                 self.assertIn(word, own, name)
 

@@ -11,6 +11,8 @@ from monicsums.ground.tables import INVERSES
 MAX_DEGREE = 400
 MAX_MADE = 2000
 MAX_FACTORED = 20
+# The greatest degree of a prime that is passed as one.
+MOST_PRIME_DEGREE = 6
 # How many monic polynomials of a degree there may be where they are listed.
 MOST_LISTED = 1000
 
@@ -35,6 +37,18 @@ def check_polynomial(q, a):
     """Raise InvalidPolynomial unless a is a polynomial of degree at most 400."""
     if not is_polynomial(q, a):
         raise InvalidPolynomial("not a polynomial over the field")
+
+
+def check_monic(q, a):
+    """Raise InvalidPolynomial unless a is a monic polynomial of degree at most 400."""
+    if not is_monic(q, a):
+        raise InvalidPolynomial("not a monic polynomial over the field")
+
+
+def check_prime(q, prime):
+    """Raise InvalidPolynomial unless the value is a prime of degree at most 6."""
+    if not is_monic(q, prime) or len(prime) - 1 > MOST_PRIME_DEGREE or not is_prime_row(q, prime):
+        raise InvalidPolynomial("not a prime over the field of degree at most 6")
 
 
 def check_modulus(q, m):

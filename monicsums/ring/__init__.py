@@ -1,0 +1,1 @@
+"""The ring C of additive polynomials, and rests modulo primes under it."""

@@ -1,0 +1,1 @@
+"""Additive maps, and what depends on what over a field."""
