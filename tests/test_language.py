@@ -26,6 +26,13 @@ INTERFACE = {
     "tables/additive": "Additive moore dependence is_dependence span_additive is_spanned",
     "ring/carlitz": "carlitz carlitz_coefficient carlitz_value carlitz_rest",
     "ring/rounds": "module_order is_maker maker orders_count makers_count killed_by module_log not_made",
+    "ring/torsion": "monic_divisors torsion torsion_value torsion_roots split_degree order_primes left_over",
+    "whole/factorials": "factorial factorial_degree factorial_exponent choose choose_places choose_degree"
+    " choose_exponent",
+    "whole/wholes": "is_row row_value base_row whole_base coordinates of_coordinates is_whole_row bad_place"
+    " is_bad_place linear_coordinates linear_value",
+    "series/bernoulli": "exp_coefficient log_coefficient bernoulli bottom_degrees bernoulli_bottom whole_part"
+    " bottom_element irregular is_irregular",
 }
 
 # The classes that have landed: what stands in the body of each one.

@@ -1,6 +1,6 @@
 """How polynomials act by C on polynomials and on rests modulo a prime; nothing is checked."""
 
-from monicsums.ground.brackets import bracket_quotient
+from monicsums.ground.brackets import over_bracket
 from monicsums.ground.factoring import cleared
 from monicsums.ground.integers import whole_power
 from monicsums.ground.rows import row_divided, row_less, row_opposite, row_scaled, row_stretched, row_sum
@@ -16,7 +16,7 @@ def coefficient_list(q, a, many):
     found = [a]
     # c_i times the bracket i is c_{i-1} ** q less c_{i-1}.
     for i in range(1, many):
-        found.append(bracket_quotient(q, i, row_less(q, row_stretched(found[-1], q), found[-1])))
+        found.append(over_bracket(q, i, 1, row_less(q, row_stretched(found[-1], q), found[-1])))
     return found[:many]
 
 

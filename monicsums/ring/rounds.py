@@ -1,12 +1,12 @@
 """Rests modulo a prime under C: orders, makers and logarithms."""
 
-from monicsums.digits.rows import digit_row
 from monicsums.errors import TooMany
 from monicsums.ground.factoring import prime_times
 from monicsums.ground.integers import whole_power
 from monicsums.ground.polys import check_monic, check_pair, check_polynomial, check_prime, units_count
 from monicsums.ground.rows import is_row_over, row_common_divisor, row_divided
 from monicsums.ring.actions import less_one, rest_log, rest_order
+from monicsums.ring.orders import first_maker, is_full_order
 
 # How many rests modulo the prime there may be.
 MOST_RESTS = 10000
@@ -26,11 +26,6 @@ def module_order(q, prime, u):
     return rest_order(q, prime, u)
 
 
-def is_full_order(q, prime, u):
-    """Whether the order of u is the prime less 1; nothing is checked."""
-    return len(rest_order(q, prime, u)) == len(prime)
-
-
 def is_maker(q, prime, value):
     """Whether the value is a rest modulo the prime whose order is the prime less 1."""
     check_prime(q, prime)
@@ -42,10 +37,7 @@ def maker(q, prime):
     """A rest whose order is the prime less 1."""
     check_prime(q, prime)
     check_rests(q, prime)
-    number = 1
-    while not is_full_order(q, prime, tuple(digit_row(q, number))):
-        number += 1
-    return tuple(digit_row(q, number))
+    return first_maker(q, prime)
 
 
 def orders_count(q, prime, m):

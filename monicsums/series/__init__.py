@@ -1,0 +1,1 @@
+"""Series of quotients: the exponential of C, and its numbers."""

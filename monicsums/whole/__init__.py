@@ -1,0 +1,1 @@
+"""Factorials of integers as polynomials, and polynomials that take whole values everywhere."""
