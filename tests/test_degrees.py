@@ -107,6 +107,72 @@ class Degrees(Case):
         self.refuses(errors.InvalidParting, None, degrees.is_degree, 2, 0, 1, (True,))
 
 
+def thin_and_full(q):
+    """Numbers of sixty digits or nearly so: with few digits in base q, with many, and one below a power of q."""
+    p = PRIMES[q]
+    most = max(n for n in range(250) if q ** n < TOO_LONG)
+    yield q ** most + q ** (most // 2) + q ** 3 + 1
+    yield sum((1 + at % (q - 1)) * q ** (most - 7 * at - 1) for at in range(most // 7))
+    yield sum(p ** at for at in range(0, 200, 5) if p ** (at + 1) < TOO_LONG)
+    yield q ** most - 1
+    yield q ** most - 2 - q ** (most // 3)
+    yield LONGEST
+    yield Numbers(q + 150).below(TOO_LONG)
+    yield Numbers(q + 151).below(10 ** 40)
+
+
+class EachDegree(Case):
+    def check_rows(self, q, k):
+        """The rows tell, degree by degree, what is told for each degree alone, and what its greatest parting tells."""
+        most = digits.most_parts(q, k)
+        found = [degrees.sum_degree(q, d, k) for d in range(most + 1)]
+        leads = [degrees.leading(q, d, k) for d in range(most + 1)]
+        self.assertEqual(degrees.leading_row(q, k), tuple(leads))
+        self.assertEqual(degrees.step_row(q, k), tuple(found[d + 1] - found[d] for d in range(most)))
+        if max(found) < TOO_LONG:
+            self.assertEqual(degrees.degree_row(q, k), tuple(found))
+        else:
+            self.refuses(errors.TooMany, 60, degrees.degree_row, q, k)
+        told = []
+        for d in range(most):
+            opposite = fields.element_less(q, 0, leads[d])
+            told.append(fields.element_product(q, opposite, fields.element_inverse(q, leads[d + 1])))
+        self.assertEqual(degrees.zero_leads(q, k), tuple(told))
+        for d in range(most + 1):
+            members = partings.greatest_parting(q, d, k)
+            self.assertIs(partings.is_parting(q, d, k, members), True)
+            self.assertEqual(found[d], sum(at * member for at, member in enumerate(members)))
+            number = digits.multinomial_rest(PRIMES[q], members)
+            self.assertEqual(leads[d], (number if d % 2 == 0 else -number) % PRIMES[q])
+
+    def test_long_numbers(self):
+        for q in FIELDS:
+            for k in thin_and_full(q):
+                self.check_rows(q, k)
+
+    def test_small_numbers(self):
+        for q in FIELDS:
+            for k in list(range(0, 260)) + [q ** 4 - 1, q ** 5 + q ** 2, 2777, 1261]:
+                self.check_rows(q, k)
+
+    def test_sums_that_hang_on_the_degree(self):
+        # What the members ahead add up to is not the same for all degrees: 181 over four elements.
+        one, other = partings.greatest_parting(4, 1, 181), partings.greatest_parting(4, 2, 181)
+        self.assertNotEqual(one[0], other[0])
+        self.check_rows(4, 181)
+
+    def test_each_greatest_parting_is_the_greatest(self):
+        for q in FIELDS:
+            for k in list(range(0, 64)) + [79, 80, 124, 181, 215]:
+                for d in range(0, min(digits.most_parts(q, k), 3) + 1):
+                    try:
+                        told = partings.all_partings(q, d, k)
+                    except errors.TooMany:
+                        continue
+                    greatest = max(told, key=lambda members: members[::-1])
+                    self.assertEqual(partings.greatest_parting(q, d, k), greatest)
+
+
 class Far(Case):
     def test_sixty_digits(self):
         for q in FIELDS:

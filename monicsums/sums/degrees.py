@@ -1,12 +1,12 @@
 """The degrees of sums of powers, and their last coefficients, told by digits."""
 
-from monicsums.digits.digits import lots_rest
 from monicsums.digits.rows import parts_bound
 from monicsums.errors import TooMany
 from monicsums.ground.fields import check_field
 from monicsums.ground.integers import check_from, is_integer
-from monicsums.ground.tables import INVERSES, OPPOSITES, PRIMES, PRODUCTS
-from monicsums.sums.greatest import greatest_members, members_exponent
+from monicsums.ground.tables import INVERSES, OPPOSITES, PRODUCTS
+from monicsums.sums.greatest import members_exponent
+from monicsums.sums.pairs import told_pair, told_pairs
 from monicsums.sums.partings import check_parting, signed
 from monicsums.sums.plain import check_sum
 
@@ -24,14 +24,14 @@ def degree_of(q, d, k):
     """The degree of S(d, k), -1 for 0; nothing is checked."""
     if d > parts_bound(q, k):
         return -1
-    return members_exponent(greatest_members(q, d, k))
+    return told_pair(q, d, k)[0]
 
 
 def lead_of(q, d, k):
     """The element at the greatest exponent of S(d, k), 0 for the polynomial 0; nothing is checked."""
     if d > parts_bound(q, k):
         return 0
-    return signed(q, d, lots_rest(PRIMES[q], greatest_members(q, d, k)))
+    return signed(q, d, told_pair(q, d, k)[1])
 
 
 def sum_degree(q, d, k):
@@ -48,12 +48,12 @@ def leading(q, d, k):
 
 def degree_list(q, k):
     """The list of the degrees of S(d, k) that are not 0; nothing is checked."""
-    return [degree_of(q, d, k) for d in range(parts_bound(q, k) + 1)]
+    return [degree for degree, _ in told_pairs(q, k, parts_bound(q, k))]
 
 
 def lead_list(q, k):
     """The list of the elements at the greatest exponents; nothing is checked."""
-    return [lead_of(q, d, k) for d in range(parts_bound(q, k) + 1)]
+    return [signed(q, d, number) for d, (_, number) in enumerate(told_pairs(q, k, parts_bound(q, k)))]
 
 
 def told_row(numbers):
