@@ -78,8 +78,8 @@ def folded_powers(q, number, many):
 
 def folded_slots(p, number, ones, bits):
     """The same slots modulo p, the upper part of each one times 2 ** bits modulo p added to its lower part."""
-    lower = number & ones * ((1 << bits) - 1)
-    return lower + (number - lower >> bits) * ((1 << bits) % p)
+    lower = number & (ones * ((1 << bits) - 1))
+    return lower + ((number - lower) >> bits) * ((1 << bits) % p)
 
 
 def reduced(q, number, many, most):
@@ -93,7 +93,7 @@ def reduced(q, number, many, most):
         for bits in FOLDS:
             number = folded_slots(p, number, ones, bits)
     # A slot below 384 times this number is below 2 ** 20, and its bits from the twelfth one on are the quotient by p.
-    quotients = number * (4096 // p + 1) >> 12 & ones * 255
+    quotients = ((number * (4096 // p + 1)) >> 12) & (ones * 255)
     return number - quotients * p
 
 
@@ -105,7 +105,8 @@ def unpacked(q, number, many):
     if size > 1:
         # The digits of an element are put together in its lowest slot.
         lowest = repeated("00000" * (size - 1) + "0000f", many)
-        told = (number & lowest) + (number >> BITS & lowest) * p + (number >> 2 * BITS & lowest) * p * p
+        middle = (number >> BITS) & lowest
+        told = (number & lowest) + middle * p + ((number >> 2 * BITS) & lowest) * p * p
     text = f"{told:x}".zfill(many * size * WIDTH)
     return [DIGITS[digit] for digit in text[::-1][:many * size * WIDTH:size * WIDTH]]
 
@@ -130,7 +131,7 @@ def slots_element(q, number):
         return number % p
     made = 0
     for at in range(slots_of(q) - 1, -1, -1):
-        digit = (number >> BITS * at & 1048575) % p
+        digit = ((number >> BITS * at) & 1048575) % p
         made = SUMS[q][PRODUCTS[q][made][p]][digit]
     return made
 
@@ -165,7 +166,8 @@ def packed_rest(q, one, many, other, few):
         place = size * (at + few - 1)
         top = rest >> place
         if top > 0:
-            rest = rest - (top << place) + (NUMBERS[q][inverses[slots_element(q, top)]] * low << size * at)
+            factor = NUMBERS[q][inverses[slots_element(q, top)]]
+            rest = rest - (top << place) + ((factor * low) << size * at)
     return reduced(q, rest, few - 1, most_in_slots(q, min(few, many - few + 1)))
 
 

@@ -1,5 +1,6 @@
 """Polynomials as tuples of coefficients: what is done with them, where nothing is checked."""
 
+from monicsums.ground.bits import bits_common, bits_divided
 from monicsums.ground.fields import repeated_product, root_of
 from monicsums.ground.integers import is_between
 from monicsums.ground.packing import packed_common, packed_divided, packed_product
@@ -9,6 +10,8 @@ from monicsums.ground.tables import INVERSES, OPPOSITES, POWERS, PRIMES, PRODUCT
 FEW = 8
 # With more coefficients than this in the divisor a division is quicker by packing.
 SHORT = 16
+# The same for bits, over the fields with p = 2.
+SHORT_BITS = 4
 
 
 def is_row_over(q, value, most):
@@ -89,7 +92,9 @@ def row_divided(q, a, b):
     """The quotient and the rest of a divided by b, which is not 0."""
     if len(a) < len(b):
         return (), a
-    if len(b) > SHORT:
+    if PRIMES[q] == 2 and len(b) > SHORT_BITS:
+        quotient, rest = bits_divided(q, a, b)
+    elif len(b) > SHORT:
         quotient, rest = packed_divided(q, a, b)
     else:
         quotient, rest = divided_by_terms(q, a, b)
@@ -184,6 +189,8 @@ def row_common_divisor(q, a, b):
     """The monic common divisor of the greatest degree; 0 if both are 0."""
     if len(a) < len(b):
         return row_common_divisor(q, b, a)
+    if len(b) > SHORT_BITS and PRIMES[q] == 2:
+        return row_monic(q, tuple(bits_common(q, a, b)))
     # Packing pays where a coefficient has one slot.
     if len(b) > SHORT and POWERS[q] == 1:
         return row_monic(q, tuple(packed_common(q, a, b)))

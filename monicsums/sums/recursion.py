@@ -35,11 +35,11 @@ def gathered(p, terms, level):
     if p == 2:
         for j, _ in terms:
             if j in level:
-                total = total ^ level[j] << j
+                total = total ^ (level[j] << j)
         return total
     for j, factor in terms:
         if j in level:
-            total = total + (level[j] * factor << BITS * j)
+            total = total + ((level[j] * factor) << BITS * j)
     return total
 
 

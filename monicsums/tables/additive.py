@@ -92,7 +92,7 @@ class Additive:
         return len(self._parts)
 
     def __bool__(self):
-        return len(self._parts) > 0
+        return bool(self._parts)
 
     def __str__(self):
         return f"additive map over {self._over} with {len(self._parts)} parts"
