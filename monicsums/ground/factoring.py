@@ -1,8 +1,8 @@
 """Primes, and polynomials as products of primes; nothing is checked."""
 
 from monicsums.ground.integers import whole_power
-from monicsums.ground.rows import row_common_divisor, row_divided, row_less, row_power_rest, row_prime_root
-from monicsums.ground.rows import row_product, row_scaled, trimmed
+from monicsums.ground.rows import row_common_divisor, row_divided, row_less, row_less_scaled, row_power_rest
+from monicsums.ground.rows import row_prime_root, row_product, trimmed
 from monicsums.ground.tables import INVERSES, PRIMES, PRODUCTS
 
 
@@ -28,8 +28,8 @@ def cleared(q, pivots, row, mark):
     while len(row) in pivots:
         other, sign = pivots[len(row)]
         element = PRODUCTS[q][row[-1]][INVERSES[q][other[-1]]]
-        row = row_less(q, row, row_scaled(q, element, other))
-        mark = row_less(q, mark, row_scaled(q, element, sign))
+        row = row_less_scaled(q, row, element, other)
+        mark = row_less_scaled(q, mark, element, sign)
     return row, mark
 
 

@@ -4,6 +4,7 @@ Each coefficient has slots of its own in a long integer, one slot for each power
 two elements. The slots are so wide that no sum of products runs over: such a sum is at most 36 times the number of
 coefficients, which stays far below 2 ** 20 // 36. An integer is packed if its slots hold elements: digits in base p,
 and 0 for the powers of u from f on. What sums and products leave in the slots is brought back to that by `reduced`.
+Where there is more than one slot, single products are quicker with an integer for each power of u, its planes.
 """
 
 from monicsums.ground.tables import INVERSES, OPPOSITES, POWERS, PRIMES, PRODUCTS, SUMS
@@ -42,6 +43,22 @@ NUMBERS = {
     7: (0, 1, 2, 3, 4, 5, 6),
     8: (0, 1, 1048576, 1048577, 1099511627776, 1099511627777, 1099512676352, 1099512676353),
     9: (0, 1, 2, 1048576, 1048577, 1048578, 2097152, 2097153, 2097154),
+}
+# PLANES[q][i][x] has the slot of the digit with the index i of the element x.
+PLANES = {
+    4: (
+        ("00000", "00001", "00000", "00001"),
+        ("00000", "00000", "00001", "00001"),
+    ),
+    8: (
+        ("00000", "00001", "00000", "00001", "00000", "00001", "00000", "00001"),
+        ("00000", "00000", "00001", "00001", "00000", "00000", "00001", "00001"),
+        ("00000", "00000", "00000", "00000", "00001", "00001", "00001", "00001"),
+    ),
+    9: (
+        ("00000", "00001", "00002", "00000", "00001", "00002", "00000", "00001", "00002"),
+        ("00000", "00000", "00000", "00001", "00001", "00001", "00002", "00002", "00002"),
+    ),
 }
 DIGITS = {"0": 0, "1": 1, "2": 2, "3": 3, "4": 4, "5": 5, "6": 6, "7": 7, "8": 8}
 
@@ -121,7 +138,36 @@ def packed_product(q, a, b):
     """The list of the coefficients of the product of two polynomials other than 0."""
     many = len(a) + len(b) - 1
     most = most_in_slots(q, min(len(a), len(b)))
+    if POWERS[q] > 1:
+        return told_planes(q, planes_product(planes_of(q, a), planes_of(q, b)), many, most)
     return unpacked(q, reduced(q, packed(q, a) * packed(q, b), many, most), many)
+
+
+def planes_of(q, a):
+    """The integers whose slots hold the coefficients of 1, of u and of u * u, as many as an element has digits."""
+    return [int("0" + "".join([texts[x] for x in a[::-1]]), 16) for texts in PLANES[q]]
+
+
+def planes_product(one, other):
+    """The planes of the product, where the f-th power of u is u + 1."""
+    if len(one) == 2:
+        low = one[0] * other[0]
+        both = (one[0] + one[1]) * (other[0] + other[1])
+        return [low + one[1] * other[1], both - low]
+    first, second, third = [x * y for x, y in zip(one, other)]
+    u = (one[0] + one[1]) * (other[0] + other[1]) - first - second
+    square = (one[0] + one[2]) * (other[0] + other[2]) - first - third + second
+    cube = (one[1] + one[2]) * (other[1] + other[2]) - second - third
+    return [first + cube, u + cube + third, square + third]
+
+
+def told_planes(q, planes, many, most):
+    """The list of the coefficients that these planes tell."""
+    p = PRIMES[q]
+    told = 0
+    for plane in planes[::-1]:
+        told = told * p + reduced(p, plane, many, most)
+    return unpacked(p, told, many)
 
 
 def slots_element(q, number):

@@ -55,6 +55,14 @@ def row_scaled(q, element, a):
     return trimmed([products[x] for x in a])
 
 
+def row_less_scaled(q, a, element, b):
+    """a less the element times b."""
+    sums = SUMS[q]
+    products = PRODUCTS[q][OPPOSITES[q][element]]
+    shared = [sums[x][products[y]] for x, y in zip(a, b)]
+    return trimmed(shared + list(a[len(b):]) + [products[y] for y in b[len(a):]])
+
+
 def row_monic(q, a):
     """The monic polynomial that is a times an element; a is not 0."""
     return row_scaled(q, INVERSES[q][a[-1]], a)
