@@ -2,7 +2,7 @@
 
 import unittest
 
-from monicsums.ground import bits, packing, rows
+from monicsums.ground import bits, packing, rows, slots
 from tests.support import FIELDS, PRIMES, Numbers, slow_added, slow_power, slow_times
 
 
@@ -25,9 +25,8 @@ class Rows(unittest.TestCase):
         self.assertLess(len(rest), len(b))
         self.assertEqual(slow_added(q, slow_times(q, quotient, b), rest), a)
         if len(a) >= len(b):
-            roads = [packing.packed_divided(q, a, b), rows.divided_by_terms(q, a, b)]
-            if q in (2, 4, 8):
-                roads.append(bits.bits_divided(q, a, b))
+            quick = bits.bits_divided if q in (2, 4, 8) else slots.slots_divided
+            roads = [quick(q, a, b), rows.divided_by_terms(q, a, b)]
             for told in roads:
                 self.assertEqual((tuple(told[0]), rows.trimmed(told[1])), (quotient, rest))
 
@@ -39,9 +38,8 @@ class Rows(unittest.TestCase):
                 one, other = sorted([slow_times(q, a, c), slow_times(q, b, c)], key=len, reverse=True)
                 shared = rows.row_common_divisor(q, one, other)
                 self.assertEqual(rows.row_common_divisor(q, other, one), shared)
-                roads = [packing.packed_common(q, one, other), rows.common_by_terms(q, one, other)]
-                if q in (2, 4, 8):
-                    roads.append(bits.bits_common(q, one, other))
+                quick = bits.bits_common if q in (2, 4, 8) else slots.slots_common
+                roads = [quick(q, one, other), rows.common_by_terms(q, one, other)]
                 for told in roads:
                     self.assertEqual(rows.row_monic(q, tuple(told)), shared)
                 self.assertEqual(rows.row_divided(q, shared, c)[1], ())

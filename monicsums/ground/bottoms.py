@@ -5,13 +5,19 @@ from monicsums.ground.quotients import lowest
 from monicsums.ground.rows import row_common_divisor, row_divided, row_product
 
 
+def common_multiple(q, one, other):
+    """The monic common multiple of the least degree of two monic polynomials."""
+    rest = row_divided(q, one, other)[1]
+    if len(rest) == 0:
+        return one
+    return row_product(q, one, row_divided(q, other, row_common_divisor(q, other, rest))[0])
+
+
 def shared_bottom(q, quotients):
     """The least common multiple of the bottoms of these quotients."""
     made = (1,)
     for _, bottom in quotients:
-        rest = row_divided(q, made, bottom)[1]
-        if len(rest) > 0:
-            made = row_product(q, made, row_divided(q, bottom, row_common_divisor(q, bottom, rest))[0])
+        made = common_multiple(q, made, bottom)
     return made
 
 

@@ -1,4 +1,4 @@
-"""Long polynomials as integers: products, quotients and common divisors by few operations of integers.
+"""Long polynomials as integers: products by few operations of integers.
 
 Each coefficient has slots of its own in a long integer, one slot for each power of u that occurs in a product of
 two elements. The slots are so wide that no sum of products runs over: such a sum is at most 36 times the number of
@@ -7,7 +7,7 @@ and 0 for the powers of u from f on. What sums and products leave in the slots i
 Where there is more than one slot, single products are quicker with an integer for each power of u, its planes.
 """
 
-from monicsums.ground.tables import INVERSES, OPPOSITES, POWERS, PRIMES, PRODUCTS, SUMS
+from monicsums.ground.tables import POWERS, PRIMES
 
 # How many bits and how many hexadecimal digits a slot has.
 BITS = 20
@@ -34,16 +34,6 @@ SLOTS = {
         "000000000100002", "000000000200000", "000000000200001", "000000000200002",
     ),
 }
-# NUMBERS[q][x] is the integer with these digits.
-NUMBERS = {
-    2: (0, 1),
-    3: (0, 1, 2),
-    4: (0, 1, 1048576, 1048577),
-    5: (0, 1, 2, 3, 4),
-    7: (0, 1, 2, 3, 4, 5, 6),
-    8: (0, 1, 1048576, 1048577, 1099511627776, 1099511627777, 1099512676352, 1099512676353),
-    9: (0, 1, 2, 1048576, 1048577, 1048578, 2097152, 2097153, 2097154),
-}
 # PLANES[q][i][x] has the slot of the digit with the index i of the element x.
 PLANES = {
     4: (
@@ -66,11 +56,6 @@ DIGITS = {"0": 0, "1": 1, "2": 2, "3": 3, "4": 4, "5": 5, "6": 6, "7": 7, "8": 8
 def slots_of(q):
     """How many slots a coefficient has."""
     return 2 * POWERS[q] - 1
-
-
-def size_of_slots(q):
-    """How many bits a coefficient has."""
-    return BITS * slots_of(q)
 
 
 def packed(q, a):
@@ -99,11 +84,8 @@ def folded_slots(p, number, ones, bits):
     return lower + ((number - lower) >> bits) * ((1 << bits) % p)
 
 
-def reduced(q, number, many, most):
-    """The packed integer with the same `many` coefficients; no slot holds more than `most`."""
-    p = PRIMES[q]
-    number = folded_powers(q, number, many)
-    ones = repeated("00001", many * slots_of(q))
+def reduced_slots(p, number, ones, most):
+    """The same slots modulo p; no slot holds more than `most`, and `ones` has 1 in each slot."""
     if p == 2:
         return number & ones
     if most >= SMALL:
@@ -112,6 +94,12 @@ def reduced(q, number, many, most):
     # A slot below 384 times this number is below 2 ** 20, and its bits from the twelfth one on are the quotient by p.
     quotients = ((number * (4096 // p + 1)) >> 12) & (ones * 255)
     return number - quotients * p
+
+
+def reduced(q, number, many, most):
+    """The packed integer with the same `many` coefficients; no slot holds more than `most`."""
+    ones = repeated("00001", many * slots_of(q))
+    return reduced_slots(PRIMES[q], folded_powers(q, number, many), ones, most)
 
 
 def unpacked(q, number, many):
@@ -128,7 +116,7 @@ def unpacked(q, number, many):
     return [DIGITS[digit] for digit in text[::-1][:many * size * WIDTH:size * WIDTH]]
 
 
-def most_in_slots(q, many):
+def most_in_slots(many):
     """A bound of a slot to which `many` products of two elements are added."""
     # A slot of the product of two elements is at most 8 for q = 9, and 36 for q = 7.
     return 36 * many + 12
@@ -137,7 +125,7 @@ def most_in_slots(q, many):
 def packed_product(q, a, b):
     """The list of the coefficients of the product of two polynomials other than 0."""
     many = len(a) + len(b) - 1
-    most = most_in_slots(q, min(len(a), len(b)))
+    most = most_in_slots(min(len(a), len(b)))
     if POWERS[q] > 1:
         return told_planes(q, planes_product(planes_of(q, a), planes_of(q, b)), many, most)
     return unpacked(q, reduced(q, packed(q, a) * packed(q, b), many, most), many)
@@ -168,66 +156,3 @@ def told_planes(q, planes, many, most):
     for plane in planes[::-1]:
         told = told * p + reduced(p, plane, many, most)
     return unpacked(p, told, many)
-
-
-def slots_element(q, number):
-    """The element that the slots of one coefficient tell."""
-    p = PRIMES[q]
-    if POWERS[q] == 1:
-        return number % p
-    made = 0
-    for at in range(slots_of(q) - 1, -1, -1):
-        digit = ((number >> BITS * at) & 1048575) % p
-        made = SUMS[q][PRODUCTS[q][made][p]][digit]
-    return made
-
-
-def packed_divided(q, a, b):
-    """The lists of the coefficients of the quotient and of the rest of a divided by b, which is not longer."""
-    size = size_of_slots(q)
-    few = len(b) - 1
-    place = size * few
-    inverses = PRODUCTS[q][OPPOSITES[q][INVERSES[q][b[-1]]]]
-    low = packed(q, b[:-1])
-    rest = packed(q, a[len(a) - few:])
-    factors = []
-    for x in a[len(a) - few - 1::-1]:
-        rest = (rest << size) + NUMBERS[q][x]
-        top = rest >> place
-        factor = inverses[slots_element(q, top)]
-        factors.append(factor)
-        rest = rest - (top << place) + NUMBERS[q][factor] * low
-    most = most_in_slots(q, min(few, len(factors)))
-    return [OPPOSITES[q][factor] for factor in factors[::-1]], unpacked(q, reduced(q, rest, few, most), few)
-
-
-def packed_rest(q, one, many, other, few):
-    """The packed rest of a packed polynomial with many coefficients by one with few coefficients, no more."""
-    size = size_of_slots(q)
-    lead = other >> size * (few - 1)
-    low = other - (lead << size * (few - 1))
-    inverses = PRODUCTS[q][OPPOSITES[q][INVERSES[q][slots_element(q, lead)]]]
-    rest = one
-    for at in range(many - few, -1, -1):
-        place = size * (at + few - 1)
-        top = rest >> place
-        if top > 0:
-            factor = NUMBERS[q][inverses[slots_element(q, top)]]
-            rest = rest - (top << place) + ((factor * low) << size * at)
-    return reduced(q, rest, few - 1, most_in_slots(q, min(few, many - few + 1)))
-
-
-def packed_common(q, a, b):
-    """The list of the coefficients of a common divisor of the greatest degree; b is not longer than a, and not 0."""
-    size = size_of_slots(q)
-    one = packed(q, a)
-    other = packed(q, b)
-    many = len(a)
-    few = len(b)
-    while few > 0:
-        rest = packed_rest(q, one, many, other, few)
-        one = other
-        many = few
-        other = rest
-        few = (rest.bit_length() + size - 1) // size
-    return unpacked(q, one, many)

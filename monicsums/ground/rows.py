@@ -3,8 +3,9 @@
 from monicsums.ground.bits import bits_common, bits_divided
 from monicsums.ground.fields import repeated_product, root_of
 from monicsums.ground.integers import is_between
-from monicsums.ground.packing import packed_common, packed_divided, packed_product
-from monicsums.ground.tables import INVERSES, OPPOSITES, POWERS, PRIMES, PRODUCTS, SUMS
+from monicsums.ground.packing import packed_product
+from monicsums.ground.slots import slots_common, slots_divided
+from monicsums.ground.tables import INVERSES, OPPOSITES, PRIMES, PRODUCTS, SUMS
 
 # With more coefficients than this that are not 0 a product is quicker by packing.
 FEW = 8
@@ -103,7 +104,7 @@ def row_divided(q, a, b):
     if PRIMES[q] == 2 and len(b) > SHORT_BITS:
         quotient, rest = bits_divided(q, a, b)
     elif len(b) > SHORT:
-        quotient, rest = packed_divided(q, a, b)
+        quotient, rest = slots_divided(q, a, b)
     else:
         quotient, rest = divided_by_terms(q, a, b)
     return tuple(quotient), trimmed(rest)
@@ -199,9 +200,8 @@ def row_common_divisor(q, a, b):
         return row_common_divisor(q, b, a)
     if len(b) > SHORT_BITS and PRIMES[q] == 2:
         return row_monic(q, tuple(bits_common(q, a, b)))
-    # Packing pays where a coefficient has one slot.
-    if len(b) > SHORT and POWERS[q] == 1:
-        return row_monic(q, tuple(packed_common(q, a, b)))
+    if len(b) > SHORT:
+        return row_monic(q, tuple(slots_common(q, a, b)))
     one = common_by_terms(q, a, b)
     if len(one) == 0:
         return ()

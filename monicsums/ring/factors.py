@@ -47,7 +47,7 @@ def times_series(q, terms, series):
         for place, part in factors:
             if place <= j:
                 total = total + series[j - place] * part
-        found.append(reduced(q, total, j + 1, most_in_slots(q, len(terms) * (j + 1))))
+        found.append(reduced(q, total, j + 1, most_in_slots(len(terms) * (j + 1))))
     return found
 
 
@@ -59,7 +59,7 @@ def over_series(q, terms, series):
         for place, part in factors:
             if place <= j:
                 total = total + found[j - place] * part
-        found.append(reduced(q, total, j + 1, most_in_slots(q, len(terms) * (j + 1))))
+        found.append(reduced(q, total, j + 1, most_in_slots(len(terms) * (j + 1))))
     return found
 
 

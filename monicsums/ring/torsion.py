@@ -95,10 +95,9 @@ def factored_value(q, m, times, u):
     """F_m(u): an error if it is 0 or too long to be factored."""
     if not is_turned_round(q, u) and value_degree(q, times, u) > MOST_FACTORED:
         raise TooMany(MOST_FACTORED)
+    # Where C takes u to few polynomials alone, the value is 0 or no longer than m.
     made = factor_value(q, m, times, u)
     check_divisor(made)
-    if len(made) - 1 > MOST_FACTORED:
-        raise TooMany(MOST_FACTORED)
     return made
 
 

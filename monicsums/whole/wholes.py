@@ -2,7 +2,7 @@
 
 from monicsums.digits.rows import digit_row
 from monicsums.errors import InvalidPolynomial, InvalidRow
-from monicsums.ground.bottoms import shared_bottom, told_quotient, tops_over
+from monicsums.ground.bottoms import common_multiple, shared_bottom, told_quotient, tops_over
 from monicsums.ground.brackets import factorial_exponents, less_exponents, times_brackets
 from monicsums.ground.fields import check_field
 from monicsums.ground.integers import check_between, whole_power
@@ -164,16 +164,21 @@ def check_images(q, images):
 def linear_coordinates(q, images):
     """The quotients by which E_0, E_1 and so on are multiplied in the map that takes T ** j to the member j."""
     check_images(q, images)
-    bottom = shared_bottom(q, images)
+    bottom = (1,)
     tops = []
     found = []
-    for j, top in enumerate(tops_over(q, images, bottom)):
+    for j, image in enumerate(images):
+        # The bottom grows only with the images that a coordinate hangs on.
+        longer = common_multiple(q, bottom, image[1])
+        factor = row_divided(q, longer, bottom)[0]
+        tops = [row_product(q, factor, top) for top in tops]
+        bottom = longer
+        left = row_product(q, image[0], row_divided(q, bottom, image[1])[0])
         ahead = cut_parts(tops)
         # At T ** j the value of E_i is the coefficient of C_a with the index i, for a = T ** j.
         values = coefficient_list(q, (0,) * j + (1,), len(ahead))
-        left = top
-        for value, factor in zip(values, ahead):
-            left = row_less(q, left, row_product(q, value, factor))
+        for value, top in zip(values, ahead):
+            left = row_less(q, left, row_product(q, value, top))
         found.append(told_quotient(q, left, bottom))
         tops.append(left)
     return tuple(found)
