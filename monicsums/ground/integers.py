@@ -2,10 +2,13 @@
 
 from monicsums.errors import InvalidNumber
 
+# 10 ** 60, the least integer that is too long to be passed.
+TOO_LONG = 1000000000000000000000000000000000000000000000000000000000000
+
 
 def is_integer(value):
     """Whether the value is an integer of at most 60 digits; True and False are none."""
-    return isinstance(value, int) and not isinstance(value, bool) and abs(value) < 10 ** 60
+    return isinstance(value, int) and not isinstance(value, bool) and -TOO_LONG < value < TOO_LONG
 
 
 def is_from(value, low):

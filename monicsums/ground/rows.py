@@ -2,7 +2,6 @@
 
 from monicsums.ground.bits import bits_common, bits_divided
 from monicsums.ground.fields import repeated_product, root_of
-from monicsums.ground.integers import is_between
 from monicsums.ground.packing import packed_product
 from monicsums.ground.slots import slots_common, slots_divided
 from monicsums.ground.tables import INVERSES, OPPOSITES, PRIMES, PRODUCTS, SUMS
@@ -19,7 +18,8 @@ def is_row_over(q, value, most):
     """Whether the value is a polynomial over the field, of a degree of at most `most`."""
     if not isinstance(value, tuple) or len(value) > most + 1:
         return False
-    if not all([is_between(element, 0, q - 1) for element in value]):
+    # Told here, and not by a call for each coefficient, as polynomials are judged more often than anything else.
+    if not all([isinstance(x, int) and not isinstance(x, bool) and 0 <= x < q for x in value]):
         return False
     return len(value) == 0 or value[-1] != 0
 

@@ -60,15 +60,25 @@ def all_product(q, d):
     return product_of_all(q, d)
 
 
-def least_multiple(q, d):
-    """L(d), the least common multiple of all monic polynomials of degree d."""
-    check_field(q)
-    check_d(d)
-    check_made(sum([whole_power(q, j) for j in range(1, d + 1)]))
+def multiple_degree(q, d):
+    """The degree of L(d); nothing is checked."""
+    return sum([whole_power(q, j) for j in range(1, d + 1)])
+
+
+def multiple_of_all(q, d):
+    """L(d); nothing is checked."""
     made = (1,)
     for j in range(1, d + 1):
         made = row_product(q, made, two_powers(q, j, 0))
     return made
+
+
+def least_multiple(q, d):
+    """L(d), the least common multiple of all monic polynomials of degree d."""
+    check_field(q)
+    check_d(d)
+    check_made(multiple_degree(q, d))
+    return multiple_of_all(q, d)
 
 
 def next_low(q, d, lows):
@@ -92,7 +102,7 @@ def low_coefficients(q, d):
     check_field(q)
     check_d(d)
     # The coefficient at x has the greatest degree: it is D(d) divided by L(d), with a sign.
-    check_made(d * whole_power(q, d) - sum([whole_power(q, j) for j in range(1, d + 1)]))
+    check_made(d * whole_power(q, d) - multiple_degree(q, d))
     return tuple(low_list(q, d))
 
 

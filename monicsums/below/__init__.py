@@ -1,0 +1,1 @@
+"""Sums of powers below 0: reciprocals of monic polynomials, products of their sums, and series that stop."""
