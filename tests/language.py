@@ -20,13 +20,13 @@ METHODS = set(
 )
 DUNDERS = set(
     "__init__ __eq__ __str__ __len__ __call__ __iter__ __add__ __sub__ __mul__ __floordiv__ __mod__ __pow__"
-    " __bool__ __neg__".split()
+    " __bool__ __neg__ __contains__".split()
 )
 # Methods of builtin values that modify.
 CHANGES = set("append clear extend insert pop remove reverse setdefault sort update".split())
 BANNED_NODES = (
     ast.AsyncFunctionDef, ast.Await, ast.AsyncFor, ast.AsyncWith, ast.Global, ast.Nonlocal, ast.GeneratorExp,
-    ast.Yield, ast.YieldFrom, ast.Set, ast.SetComp, ast.Div, ast.MatMult, ast.AnnAssign, ast.Import, ast.Try,
+    ast.Yield, ast.YieldFrom, ast.Set, ast.SetComp, ast.Div, ast.MatMult, ast.AnnAssign, ast.Import,
     ast.Lambda, ast.With, ast.Assert, ast.Delete, ast.Starred, ast.Match,
 )
 BANNED_NAMES = set(
@@ -40,6 +40,11 @@ BANNED_WORDS = re.compile(
 )
 LIBRARY = {"heapq", "math", "itertools", "collections"}
 PLAIN = (ast.Constant, ast.Tuple, ast.List, ast.Dict)
+# The errors of the package: others are not caught.
+ERRORS = set(
+    "MonicError InvalidField InvalidPolynomial InvalidQuotient InvalidParting InvalidRow InvalidName InvalidOperation"
+    " ParseError InvalidNumber UnknownName NothingToUndo TooMany Refused".split()
+)
 
 
 def files():
@@ -76,31 +81,40 @@ def is_builtin(name):
     return hasattr(builtins, name) and not name.startswith("__")
 
 
-def is_plain(node):
-    """Whether an expression at module level is a plain value."""
+def own_methods():
+    """The names of the methods of the classes of the package."""
+    boxes = [node for tree in trees().values() for node in tree.body if isinstance(node, ast.ClassDef)]
+    return {node.name for box in boxes for node in box.body if isinstance(node, ast.FunctionDef)}
+
+
+def is_plain(node, names=()):
+    """Whether an expression at module level is a plain value, or of the functions with these names."""
     if isinstance(node, ast.UnaryOp):
         return isinstance(node.op, ast.USub) and isinstance(node.operand, ast.Constant)
     if isinstance(node, ast.Constant):
         return not isinstance(node.value, float)
+    if isinstance(node, ast.Name):
+        return node.id in names
     if isinstance(node, ast.Dict):
-        return all(is_plain(one) for one in node.keys + node.values)
+        return all(is_plain(one) for one in node.keys) and all(is_plain(one, names) for one in node.values)
     if isinstance(node, (ast.Tuple, ast.List)):
-        return all(is_plain(one) for one in node.elts)
+        return all(is_plain(one, names) for one in node.elts)
     return False
 
 
 def top_level_faults(path, tree):
     """What may not stand at the level of a module."""
-    bound = []
+    bound, made = [], []
     for node in tree.body:
         if isinstance(node, ast.Expr) and isinstance(node.value, ast.Constant):
             continue
         if isinstance(node, (ast.FunctionDef, ast.ClassDef)):
             bound.append(node.name)
+            made.append(node.name)
         elif isinstance(node, ast.ImportFrom):
             bound.extend(one.name for one in node.names)
             yield from import_faults(path, node)
-        elif isinstance(node, ast.Assign) and len(node.targets) == 1 and is_plain(node.value):
+        elif isinstance(node, ast.Assign) and len(node.targets) == 1 and is_plain(node.value, made):
             bound.append(node.targets[0].id)
         else:
             yield path, node.lineno, "L3 a statement at module level"
@@ -163,8 +177,8 @@ def function_faults(path, tree):
             yield path, node.lineno, f"{node.name} has no docstring"
 
 
-def node_faults(path, node):
-    """What may not stand anywhere."""
+def node_faults(own, node):
+    """What may not stand anywhere; `own` has the names of the methods of the package."""
     if isinstance(node, BANNED_NODES):
         return f"{type(node).__name__} is not used here"
     if isinstance(node, ast.Constant) and isinstance(node.value, (float, complex, bytes)):
@@ -182,9 +196,12 @@ def node_faults(path, node):
             if isinstance(sign, (ast.Is, ast.IsNot)) and not isinstance(other, ast.Constant):
                 return "L20 is"
     if isinstance(node, ast.ExceptHandler):
-        return "L19 an error is caught"
+        caught = node.type.elts if isinstance(node.type, ast.Tuple) else [node.type]
+        return None if all(is_name(one, ERRORS) for one in caught) else "L19 an error is caught"
+    if isinstance(node, ast.Try):
+        return "L6 a finally or an else" if node.finalbody or node.orelse else None
     if isinstance(node, ast.Call):
-        return call_fault(node)
+        return call_fault(own, node)
     return None
 
 
@@ -197,11 +214,11 @@ def power_fault(node):
     return "L27 an exponent"
 
 
-def call_fault(node):
+def call_fault(own, node):
     if isinstance(node.func, ast.Attribute):
         if isinstance(node.func.value, ast.Call) and node.func.attr == "__init__":
             return None
-        if node.func.attr not in METHODS:
+        if node.func.attr not in METHODS and node.func.attr not in own:
             return f"L25 the method {node.func.attr}"
         if node.keywords:
             return "L25 a keyword of a method"
@@ -343,6 +360,7 @@ def is_name(node, names):
 def faults():
     """All that is seen to break a rule."""
     found = []
+    own = own_methods()
     for path in files():
         if not re.fullmatch(r"[a-z0-9_/]+\.py", path.replace(os.sep, "/")):
             found.append((path, 0, "L1 the name of a file"))
@@ -358,7 +376,7 @@ def faults():
         found.extend(function_faults(path, tree))
         found.extend(unused_faults(path, tree))
         for node in ast.walk(tree):
-            fault = node_faults(path, node)
+            fault = node_faults(own, node)
             if fault is not None:
                 found.append((path, getattr(node, "lineno", 0), fault))
     found.extend(circle_faults())

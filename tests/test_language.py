@@ -33,6 +33,15 @@ INTERFACE = {
     " is_bad_place linear_coordinates linear_value",
     "series/bernoulli": "exp_coefficient log_coefficient bernoulli bottom_degrees bernoulli_bottom whole_part"
     " bottom_element irregular is_irregular",
+    "series/symbols": "symbol symbol_by_lots symbol_steps is_symbol_steps symbol_by_steps power_root is_power_root",
+    "below/reciprocals": "reciprocal_sum reciprocal_by_series below_degree first_step degree_by_steps step_row_below",
+    "below/products": "nested_sum low_nested product_terms product_row low_product_row",
+    "below/stopping": "inner_sum stopping_part stopping_end stopping_row",
+    "house/shelf": "is_question decide is_paper is_edit edited Shelf",
+    "house/log": "log_text read_log",
+    "text/texts": "write_polynomial write_quotient write_row read_polynomial read_quotient read_row write_value"
+    " read_value",
+    "text/shell": "Shell",
 }
 
 # The classes that have landed: what stands in the body of each one.
@@ -41,6 +50,9 @@ METHODS = {
     " __len__ __iter__ __eq__ __str__",
     "tables/additive": "over parts __add__ __sub__ __neg__ __mul__ __call__ __eq__ __len__ __bool__ __str__"
     " right_divided",
+    "house/shelf": "__init__ edit pin polynomials_at standing field editions claims fallen history twin __contains__"
+    " __len__ __eq__ __str__",
+    "text/shell": "__init__ say run said __str__",
 }
 
 

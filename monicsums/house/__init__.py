@@ -1,0 +1,1 @@
+"""A shelf of named polynomials with what is claimed of them, and its log."""
