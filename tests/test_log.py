@@ -141,7 +141,8 @@ class Logs(Case):
             "pin divides a q", "pin divides a b b", "pin divides q a", "pin hang", "pin hang q", "pin hang a b a b a",
             "pin hang a ", "pin  hang a", "pin hang  a", "pin drop a", "pin 3", "shelf 3", "pin zero 1 1\t", "pinzero 1 1",
             "edit " + " / ".join(["move 0"] * 11), "edit times b b / times b b / times b b / times b b / times b b",
-            "pin zero 1 1.0", "pin zero 1 1_0", "edit move 1_0", "edit put a 1_0", "pin zero True 1",
+            "other hang a", "Pin hang a", "hang a", "hang hang a",
+            " hang a", "put put a 1", "pin zero 1 1.0", "pin zero 1 1_0", "edit move 1_0", "edit put a 1_0", "pin zero True 1",
         ]
         for line in wrong:
             self.wrong_line(1, FIRST + line + "\n")

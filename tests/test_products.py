@@ -222,17 +222,20 @@ class Sums(Case):
             (3, 4, (12, 11, 11)), (3, 4, (12, 12, 12)), (5, 3, (12, 3, 12)), (5, 3, (12, 8)), (4, 4, (3, 11, 5)),
             (4, 4, (4, 5, 12)), (3, 5, (1, 12, 12)), (2, 6, (8, 12, 11)), (2, 6, (9, 12, 11)), (2, 6, (10, 11, 12)),
             (4, 4, (3, 10, 11)), (4, 4, (4, 11, 11)), (5, 3, (12, 12, 12)), (3, 5, (2, 12, 12)), (3, 5, (4, 11, 1)),
+            # With bottoms of degree 2000 and 2002.
+            (5, 3, (11, 8, 11)), (4, 4, (4, 8)), (2, 6, (10, 12, 1)), (2, 6, (10, 11, 3)), (2, 6, (10, 11, 5)),
         ]
-        found = []
+        found, degrees = [], []
         for q, d, row in rows:
             made = Told(q).nested(d, row)
+            degrees.append(len(made[1]) - 1)
             if max(len(part) for part in made) > 2001:
                 self.refuses(errors.TooMany, 2000, products.nested_sum, q, d, row)
                 found.append(False)
             else:
                 self.assertEqual(products.nested_sum(q, d, row), made)
                 found.append(sum(sum(q ** j for j in range(1, d - at + 1)) * k for at, k in enumerate(row)) > 2000)
-        self.assertTrue(True in found and False in found)
+        self.assertTrue(True in found and False in found and 2000 in degrees and 2002 in degrees)
 
     def test_wrong_values(self):
         for call in (products.nested_sum, products.low_nested):

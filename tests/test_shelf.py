@@ -54,7 +54,7 @@ def edits_of(q):
 
 def no_edits(q):
     return NO_TUPLES + [("put", "a", value) for value in no_polynomials(q)] + [
-        ("put",), ("put", "a"), ("put", "a", ONE, ONE), ("put", ONE, "a"), ("drop",), ("drop", "a", "b"), ("drop", 1),
+        ("put",), ("put", "a"), ("put", "a", ONE, ONE), ("put", ONE, "a"), ("put", "A", ONE), ("put", 1, ONE), ("put", "ninechars", ONE), ("drop",), ("drop", "a", "b"), ("drop", 1),
         ("add",), ("add", "a"), ("add", "a", "b", "c"), ("add", "a", ONE), ("times", "a"), ("times", 1, 2),
         ("times", "a", "b", "c"), ("move",), ("move", q), ("move", -1), ("move", True), ("move", "1"), ("move", 0, 0),
         ("move", ONE), ("move", "a"), ("other", "a"), ("a", "b"), (1, 2), ("PUT", "a", ONE), ["drop", "a"],
@@ -202,7 +202,7 @@ class Questions(Case):
         for value in (((1, 0), (0, 1)), ((1, 0), (1, 1)), ((0, 1), (1, 0))):
             self.assertIs(house.is_paper(2, named, ("hang", "a", "b"), False, value), True)
         wrong = [((True, 0), (0, 1)), ((1, 0), (0, 2)), ((1, 0), (0, 0)), ((1, 0), [0, 1]), ((1, 0),), ((1, 0), (0, 1), (1, 1))]
-        wrong += [((1,), (0, 1)), ((1, 0, 0), (0, 1, 0)), ((0, 1), (1, 1)), ((1, 0), (1, 0)), ((1, 0), None), "10", NESTED]
+        wrong += [((-1, 0), (0, 1)), ((1, 0), (0, -1)), ((1,), (0, 1)), ((1, 0, 0), (0, 1, 0)), ((0, 1), (1, 1)), ((1, 0), (1, 0)), ((1, 0), None), "10", NESTED]
         for value in wrong:
             self.assertIs(house.is_paper(2, named, ("hang", "a", "b"), False, value), False)
         self.assertIs(house.is_paper(2, {"a": T}, ("hang", "a", "a"), True, (1, 1)), True)
@@ -277,6 +277,9 @@ class Edits(Case):
         ]
         for named, edits, (at, word) in cases:
             self.refuses(errors.Refused, ("edit", at, word), house.edited, 2, named, edits)
+        half = {"a": (0,) * 30 + ONE, "b": (0,) * 31 + ONE}
+        self.refuses(errors.Refused, ("edit", 0, "great"), house.edited, 2, half, (("times", "a", "b"),))
+        self.assertEqual(house.edited(2, half, (("times", "a", "a"),))["a"], long)
         # 0 times a long one is 0.
         self.assertEqual(house.edited(2, {"a": (), "b": long}, (("times", "a", "b"),)), {"a": (), "b": long})
         self.assertEqual(house.edited(2, {"a": long}, (("add", "a", "a"),)), {"a": ()})

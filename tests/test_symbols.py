@@ -265,6 +265,8 @@ class Roots(Case):
                     self.assertIs(symbols.is_power_root(q, a, prime, e, made), True)
                     self.assertIs(symbols.is_power_root(q, a, prime, e, row_divided(q, b, prime)[1]), True)
                     self.assertIs(symbols.is_power_root(q, a, prime, e, b), False)
+                    # A polynomial with the right rest that is no rest is none.
+                    self.assertIs(symbols.is_power_root(q, a, prime, e, polys.added(q, made, prime)), False)
                     zero = slow_times(q, prime, (1, 0, 1))
                     self.assertEqual(symbols.power_root(q, zero, prime, e), ())
                     self.assertIs(symbols.is_power_root(q, zero, prime, e, ()), True)

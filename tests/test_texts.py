@@ -105,6 +105,8 @@ class Pieces(Kind):
                 for other in ("1", "x", "0", "1/1"):
                     self.wrong_at(len(piece) + 4, texts.read_polynomial, q, f" {piece}   {other} 1")
                     self.wrong_at(len(piece) + 6, texts.read_quotient, q, f" {piece}/1   {other} 1")
+                    self.wrong_at(len(piece) + 1, texts.read_polynomial, q, f"{piece} {other}")
+                    self.wrong_at(len(piece) + 3, texts.read_quotient, q, f"{piece}/1 {other}")
             for piece in ("1", "0", "1,1", "1/1/1", "0/1/", "/1", "1//1", "0/1/1"):
                 self.wrong_at(2, texts.read_quotient, q, f"  {piece} ")
             for piece in ("1/1", "0/1"):

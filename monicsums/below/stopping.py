@@ -38,7 +38,7 @@ def inner_sum(q, m, j):
 def told_part(q, m, n):
     """The tuple of the coefficients of the part n for m; nothing is checked."""
     terms = part_terms(q, m, n)
-    return tuple([terms.get(at, ()) for at in range(max(terms, default=-1) + 1)])
+    return tuple([terms.get(at, ()) for at in range(max(list(terms), default=-1) + 1)])
 
 
 def stopping_part(q, m, n):

@@ -78,8 +78,8 @@ def without_shared(q, top, bottom, base, times):
     left = top
     below = bottom
     many = 0
-    # A prime that divides the base often is divided out by as many steps; in each one the shared part is a divisor of
-    # that ahead, so the power is never met as a whole.
+    # Each step divides by one factor of the power as far as the top has it. What it does not share once, it does not
+    # share again, so a step looks at what the one ahead divided by alone, and never at the power as a whole.
     while many < times and len(shared) > 1:
         shared = row_common_divisor(q, left, shared)
         left = row_divided(q, left, shared)[0]
